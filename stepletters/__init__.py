@@ -1,0 +1,1 @@
+"""Letters with degrees, and steps that are nothing when done twice."""

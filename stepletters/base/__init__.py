@@ -1,0 +1,1 @@
+"""Ratios, tables and what both are worked out with."""

@@ -1,0 +1,1 @@
+"""Classes: closed sums up to steps."""

@@ -1,0 +1,1 @@
+"""Towers: letters, each with its step."""

@@ -1,0 +1,1 @@
+"""Letters, words and sums of words."""

@@ -1,0 +1,127 @@
+"""[0.1] to [0.7]: what holds for all functions and classes together."""
+
+import inspect
+import unittest
+
+from stepletters.base import ratios, tables
+from stepletters.classes import classes
+from stepletters.towers import towers
+from stepletters.towers.towers import Tower
+from stepletters.words import sums, words
+from stepletters.words.sums import Sum
+from support import Case, any_values
+
+BALL = Tower((2, 3), ({}, {(2, 0): 1}))
+X = Sum.letter((2, 3), 0)
+
+# Each function of the interface by its module, with arguments that it takes.
+INTERFACE = {
+    ratios: {"is_integer": (1,), "is_ratio": (1,), "lowest": (4, -6), "plus": ((1, 2), (1, 3)),
+             "minus": ((1, 2), (1, 3)), "times": ((1, 2), (1, 3)), "over": ((1, 2), (1, 3)),
+             "compare": ((1, 2), (1, 3)), "ratio_text": ((1, 2),)},
+    tables: {"is_table": (((1,),),), "rank": (((1, 2),),), "kernel": (((1, 2),),), "span_paper": (((1, 2),), (2, 4)),
+             "is_span_paper": (((1, 2),), (2, 4), None)},
+    words: {"is_letters": ((2, 3),), "is_word": ((2, 3), (1, 0)), "word_degree": ((2, 3), (1, 0)),
+            "word_length": ((2, 3), (1, 0)), "word_product": ((2, 3), (1, 0), (0, 1)), "words_of": ((2, 3), 6),
+            "word_count": ((2, 3), 6), "even_letters": ((2, 3),), "odd_letters": ((2, 3),), "top_word": ((1, 3),),
+            "sorted_word": ((2, 3), (1, 0)), "each_word": ((2, 3), 4)},
+    sums: {"power": (X, 2), "placed": (X, (3, 2), (1, 0)), "plain_sum": (X,)},
+    towers: {"tower_fault": ((2,), ({},)), "beside": (BALL, BALL), "cut_tower": (BALL, 1), "with_letter": (BALL, 3, {}),
+             "plain_tower": (BALL,), "quadratic_tower": (BALL,)},
+    classes: {"closed_count": (BALL, 2), "step_count": (BALL, 4), "class_count": (BALL, 2), "class_row": (BALL, 5),
+              "class_basis": (BALL, 2), "is_class_basis": (BALL, 2, None), "class_paper": (BALL, X),
+              "is_class_paper": (BALL, X, None), "coordinates": (BALL, (X,), X)},
+}
+METHODS = {Sum: "letter one letters terms is_level degree number_at part __add__ __sub__ __neg__ __mul__ __eq__ "
+                "__contains__ __len__ __bool__ __iter__ __str__",
+           Tower: "letters steps size is_plain step is_closed letter_sum __eq__ __len__ __str__"}
+
+
+def plain(value):
+    """A value whose parts can be compared: sums and towers as what they tell."""
+    if isinstance(value, Sum):
+        return ("sum", value.letters, value.terms)
+    if isinstance(value, Tower):
+        return ("tower", value.letters, tuple(plain(step) for step in value.steps))
+    if isinstance(value, tuple):
+        return tuple(plain(part) for part in value)
+    if inspect.isgenerator(value):
+        return list(value)
+    return value
+
+
+def kinds(value):
+    """All values in a value."""
+    yield value
+    if isinstance(value, (tuple, list)):
+        for part in value:
+            yield from kinds(part)
+    if isinstance(value, dict):
+        for key, part in value.items():
+            yield from kinds(key)
+            yield from kinds(part)
+
+
+class InterfaceTest(Case):
+    def test_each_name_is_defined_in_its_file(self):
+        for module, calls in INTERFACE.items():
+            for name in calls:
+                self.assertEqual(getattr(module, name).__module__, module.__name__)
+        for kind, names in METHODS.items():
+            for name in names.split():
+                self.assertIn(name, vars(kind))
+        self.assertEqual((Sum.__module__, Tower.__module__), (sums.__name__, towers.__name__))
+
+    def test_equal_calls_return_equal_results_of_the_told_kinds(self):
+        for module, calls in INTERFACE.items():
+            for name, given in calls.items():
+                call = getattr(module, name)
+                before = plain(given)
+                first, second = plain(call(*given)), plain(call(*given))
+                self.same(first, second)
+                self.same(plain(given), before)
+                for part in kinds(first):
+                    if not inspect.isgeneratorfunction(call):
+                        self.assertNotIsInstance(part, (list, set, float))
+
+    def test_functions_that_judge_return_true_or_false_for_any_value(self):
+        for module, calls in INTERFACE.items():
+            for name, given in calls.items():
+                if name.startswith("is_"):
+                    for value in any_values():
+                        self.assertIn(getattr(module, name)(*given[:-1], value), (True, False))
+                        self.assertIs(type(getattr(module, name)(*given[:-1], value)), bool)
+
+    def test_the_first_of_two_wrong_arguments_decides(self):
+        for call, given, name in [
+            (ratios.plus, ((2, 4), None), "InvalidRatio"), (tables.span_paper, (None, None), "InvalidTable"),
+            (words.is_word, (None, None), "InvalidLetters"), (words.words_of, ((0,), -1), "InvalidLetters"),
+            (words.word_product, ((2,), None, None), "InvalidWord"), (Sum, ((0,), None), "InvalidLetters"),
+            (sums.power, (None, -1), "InvalidSum"), (sums.placed, (X, None, None), "InvalidLetters"),
+            (sums.placed, (None, None, None), "InvalidSum"), (Tower, ((0,), None), "InvalidLetters"),
+            (towers.beside, (None, None), "InvalidTower"), (towers.cut_tower, (None, -1), "InvalidTower"),
+            (classes.class_paper, (None, None), "InvalidTower"), (classes.class_paper, (BALL, None), "InvalidSum"),
+            (classes.coordinates, (BALL, None, None), "InvalidOperation"),
+            (classes.coordinates, (None, None, None), "InvalidTower"),
+        ]:
+            self.fails(name, None, call, *given)
+        self.fails("InvalidNumber", True, ratios.lowest, True, 0)
+        self.fails("InvalidNumber", None, towers.with_letter, BALL, None, None)
+        self.fails("InvalidNumber", None, classes.is_class_basis, BALL, None, None)
+
+    def test_returned_dicts_ascend(self):
+        for a_sum in (X + Sum((2, 3), {(0, 1): 1}), X * X + X, BALL.step(Sum((2, 3), {(0, 1): 1, (3, 1): 2}))):
+            self.same(list(a_sum.terms), sorted(a_sum.terms))
+        given = {(3, 0): 1, (0, 0): 2, (1, 1): 3}
+        self.same(list(Sum((2, 3), given).terms), sorted(given))
+        self.same(list(given), [(3, 0), (0, 0), (1, 1)])
+
+    def test_objects_never_change(self):
+        for thing, names in ((X, ("letters", "terms", "is_level", "degree")), (BALL, ("letters", "steps", "size"))):
+            for name in names:
+                with self.assertRaises(AttributeError):
+                    setattr(thing, name, None)
+
+
+if __name__ == "__main__":
+    unittest.main()

@@ -1,0 +1,91 @@
+"""The examples of the document, each compared with what the document prints below it."""
+
+import ast
+import os
+import re
+import unittest
+
+from stepletters import errors
+from stepletters.base import ratios, tables
+from stepletters.classes import classes
+from stepletters.towers import towers
+from stepletters.words import sums, words
+from support import KEPT, Case
+
+HERE = os.path.dirname(os.path.abspath(__file__))
+DOCUMENT = os.path.join(HERE, "..", "..", "shared", "DOC.md")
+STAGES = {1: (ratios, tables), 2: (words,), 3: (sums,), 4: (sums, towers), 5: (classes,)}
+
+
+def told(stage):
+    """The pairs (code, what is printed below it or None) of a stage."""
+    with open(os.path.join(HERE, "examples", f"stage{stage}.txt"), encoding="utf-8") as file:
+        lines = file.read().splitlines()
+    pairs = []
+    for line in lines:
+        if line.startswith(">>> "):
+            pairs.append([line[4:], None])
+        else:
+            pairs[-1][1] = line
+    return pairs
+
+
+def names_of(stage):
+    """The public names of the modules of a stage."""
+    found = {}
+    for module in STAGES[stage]:
+        for name, value in vars(module).items():
+            if not name.startswith("_") and getattr(value, "__module__", module.__name__) == module.__name__:
+                found[name] = value
+    return found
+
+
+def outcome(code, names):
+    """What the document would print below some code."""
+    if isinstance(ast.parse(code).body[0], ast.Expr):
+        try:
+            return repr(eval(code, names))
+        except (errors.StepError, errors.InvalidNumber, errors.TooMany) as error:
+            name = type(error).__name__
+            return f"raises {name}({getattr(error, KEPT[name])!r})" if name in KEPT else f"raises {name}"
+    exec(code, names)
+    return None
+
+
+class ExamplesTest(Case):
+    def check_stage(self, stage):
+        names = names_of(stage)
+        pairs = told(stage)
+        self.assertGreater(len(pairs), 5)
+        for code, wanted in pairs:
+            with self.subTest(code=code):
+                self.assertEqual(outcome(code, names), wanted)
+
+    def test_ratios_and_tables(self):
+        self.check_stage(1)
+
+    def test_words(self):
+        self.check_stage(2)
+
+    def test_sums(self):
+        self.check_stage(3)
+
+    def test_towers(self):
+        self.check_stage(4)
+
+    def test_classes(self):
+        self.check_stage(5)
+
+    @unittest.skipUnless(os.path.exists(DOCUMENT), "the document is not here")
+    def test_the_examples_are_those_of_the_document(self):
+        with open(DOCUMENT, encoding="utf-8") as file:
+            parts = re.split(r"(?m)^## ", file.read())
+        for stage in STAGES:
+            part = next(part for part in parts if part.startswith(f"Stage {stage}:"))
+            blocks = re.findall(r"```\n(.*?)```", part, re.DOTALL)
+            with open(os.path.join(HERE, "examples", f"stage{stage}.txt"), encoding="utf-8") as file:
+                self.assertEqual(file.read(), "".join(blocks))
+
+
+if __name__ == "__main__":
+    unittest.main()
