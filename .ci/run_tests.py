@@ -43,9 +43,11 @@ def main(tops):
         call = [sys.executable, os.path.abspath(__file__), "--folder", folder]
         done = subprocess.run(call, stdout=subprocess.PIPE, text=True, check=False)
         counts = done.stdout.split("\n")[-2].split() if done.stdout.endswith("\n") else []
-        if len(counts) == 2 and all(count.isdigit() for count in counts):
-            passed, failed = passed + int(counts[0]), failed + int(counts[1])
-        if done.returncode != 0 and (len(counts) != 2 or counts[1] == "0"):
+        if len(counts) != 2 or not all(count.isdigit() for count in counts):
+            # The run broke off ahead of its counts.
+            counts = ["0", "1"]
+        passed, failed = passed + int(counts[0]), failed + int(counts[1])
+        if done.returncode != 0 and counts[1] == "0":
             failed += 1
     print(f"{passed} passed, {failed} failed")
     return 0 if failed == 0 and passed > 0 else 1
