@@ -164,3 +164,77 @@ def slow_class_number(tower, degree):
     """The class number of a degree by ranks."""
     words = len(slow_words(tower.letters, degree))
     return words - slow_rank(slow_step_rows(tower, degree)) - slow_rank(slow_step_rows(tower, degree - 1))
+
+
+def slow_rank_of_steps(tower, words):
+    """How many of the steps of some words are independent."""
+    steps = [step.terms for step in tower.steps]
+    found = [slow_step(tower.letters, steps, {word: 1}) for word in words]
+    targets = sorted({word for step in found for word in step})
+    return slow_rank([[step.get(word, Fraction(0)) for word in targets] for step in found])
+
+
+def slow_block_number(tower, degree, key, value, before):
+    """The classes told by the words of a degree with key(word) == value, steps being of `before`."""
+    words = [word for word in slow_words(tower.letters, degree) if key(word) == value]
+    others = [word for word in slow_words(tower.letters, degree - 1) if key(word) == before]
+    return len(words) - slow_rank_of_steps(tower, words) - slow_rank_of_steps(tower, others)
+
+
+def slow_row(tower, a_sum, degree):
+    """The numbers of a sum at all words of a degree."""
+    numbers = as_fractions(a_sum)
+    return [numbers.get(word, Fraction(0)) for word in slow_words(tower.letters, degree)]
+
+
+def slow_is_step(tower, a_sum):
+    """Whether a level sum other than 0 is a step, by ranks."""
+    rows = slow_step_rows(tower, a_sum.degree - 1)
+    return slow_rank(rows + [slow_row(tower, a_sum, a_sum.degree)]) == slow_rank(rows)
+
+
+def slow_even_rank(tower, degree):
+    """The number of even words of a degree, and how many sums of them the plain tower's steps make."""
+    odds = [index for index, letter in enumerate(tower.letters) if letter % 2]
+    steps = [{word: number for word, number in step.terms.items() if not any(word[index] for index in odds)}
+             for step in tower.steps]
+    evens = [word for word in slow_words(tower.letters, degree) if not any(word[index] for index in odds)]
+    ones = [word for word in slow_words(tower.letters, degree - 1) if sum(word[index] for index in odds) == 1]
+    steps = [step if letter % 2 else {} for letter, step in zip(tower.letters, steps)]
+    found = [slow_step(tower.letters, steps, {word: 1}) for word in ones]
+    return len(evens), slow_rank([[step.get(word, Fraction(0)) for word in evens] for step in found])
+
+
+def slow_series(over, under, most):
+    """The product of 1 - t ** n over the integers in `over`, divided by that of those in `under`."""
+    row = [1] + [0] * most
+    for n in over:
+        row = [row[at] - (row[at - n] if at >= n else 0) for at in range(most + 1)]
+    for n in under:
+        for at in range(n, most + 1):
+            row[at] += row[at - n]
+    return row
+
+
+BALL = Tower((2, 3), ({}, {(2, 0): 1}))
+PLANE = Tower((2, 5), ({}, {(3, 0): 2}))
+KNOT = Tower((1, 1, 1), ({}, {}, {(1, 1, 0): 1}))
+HALF = Tower((3, 3, 5), ({}, {}, {(1, 1, 0): 1}))
+BENT = Tower((2, 2, 3, 3, 4), ({}, {}, {(2, 0, 0, 0, 0): 1}, {(1, 1, 0, 0, 0): 1},
+                               {(0, 1, 1, 0, 0): 1, (1, 0, 0, 1, 0): -1}))
+TWIST = Tower((2, 3, 3, 3, 5), ({}, {(2, 0, 0, 0, 0): (2, 3)}, {}, {}, {(0, 0, 1, 1, 0): 1, (3, 0, 0, 0, 0): -1}))
+OPEN = Tower((2, 2, 3), ({}, {}, {(1, 1, 0): 1, (0, 2, 0): (-1, 5)}))
+LONG = Tower((2, 3, 3), ({}, {(2, 0, 0): (SIXTY, 2)}, {(2, 0, 0): (1, SIXTY)}))
+BOTH = Tower((2, 2, 3, 3), ({}, {}, {(2, 0, 0, 0): 1}, {(0, 2, 0, 0): 1}))
+CROSS = Tower((3, 2, 5, 4, 7), ({}, {}, {(0, 3, 0, 0, 0): 1}, {(1, 1, 0, 0, 0): 1},
+                                {(0, 4, 0, 0, 0): 2, (0, 2, 0, 1, 0): 1, (1, 0, 1, 0, 0): 1}))
+# an even letter with a step, and classes that end
+KNIT = Tower((3, 3, 5, 10, 15, 19), ({}, {}, {}, {(1, 1, 1, 0, 0, 0): 1}, {(1, 1, 0, 1, 0, 0): 1},
+                                     {(0, 0, 0, 2, 0, 0): 1, (0, 0, 1, 0, 1, 0): 2}))
+EMPTY = Tower((), ())
+# exactly 150 words at 22, 151 at 38 in the second one; none at odd degrees
+FULL = Tower((2, 2, 2, 6), ({},) * 4)
+OVER = Tower((2, 2, 6, 10), ({},) * 4)
+# 252 words at 5, 1 at 10, none above
+ROW = Tower((1,) * 10, ({},) * 10)
+SAMPLES = [BALL, PLANE, KNOT, HALF, BENT, TWIST, OPEN, LONG, BOTH, EMPTY]

@@ -4,7 +4,9 @@ import inspect
 import unittest
 
 from stepletters.base import ratios, tables
-from stepletters.classes import classes
+from stepletters.built import built
+from stepletters.classes import classes, rings, weights
+from stepletters.plain import ends
 from stepletters.towers import towers
 from stepletters.towers.towers import Tower
 from stepletters.words import sums, words
@@ -31,7 +33,17 @@ INTERFACE = {
     classes: {"closed_count": (BALL, 2), "step_count": (BALL, 4), "class_count": (BALL, 2), "class_row": (BALL, 5),
               "class_basis": (BALL, 2), "is_class_basis": (BALL, 2, None), "class_paper": (BALL, X),
               "is_class_paper": (BALL, X, None), "coordinates": (BALL, (X,), X)},
+    rings: {"class_products": (BALL, (X,), (X,), ()), "pairing_rank": (BALL, 0, 2), "product_count": (BALL, 2, 4),
+            "is_product": (BALL, 2, X), "cup_length": (BALL, 4)},
+    weights: {"is_weighting": (BALL, None), "plain_weighting": ((2, 3),), "weight_words": ((2, 3), (1, 2), 4, 2),
+              "weight_count": (BALL, (1, 2), 2, 1), "weight_row": (BALL, (1, 2), 1), "signed_number": ((2, 3), (1, 2), 1)},
+    ends: {"top_degree": ((2, 3),), "euler_number": ((2, 3),), "does_end": (BALL,), "end_paper": (BALL,),
+           "is_end_paper": (BALL, None), "top_class": (BALL,), "total_count": (BALL,)},
+    built: {"sphere": (4,), "projective": (2, 3), "special_group": (3,), "spaces": (2, 4), "flags": (3,),
+            "box_count": (2, 3, 4), "turn_count": (4, 3)},
 }
+# These ask for something of what is passed to them, and have no parameter `value`.
+ASKING = ("is_product", "does_end")
 METHODS = {Sum: "letter one letters terms is_level degree number_at part __add__ __sub__ __neg__ __mul__ __eq__ "
                 "__contains__ __len__ __bool__ __iter__ __str__",
            Tower: "letters steps size is_plain step is_closed letter_sum __eq__ __len__ __str__"}
@@ -87,7 +99,9 @@ class InterfaceTest(Case):
     def test_functions_that_judge_return_true_or_false_for_any_value(self):
         for module, calls in INTERFACE.items():
             for name, given in calls.items():
-                if name.startswith("is_"):
+                if name in ASKING:
+                    self.assertIs(type(getattr(module, name)(*given)), bool)
+                elif name.startswith(("is_", "does_", "can_")):
                     for value in any_values():
                         self.assertIn(getattr(module, name)(*given[:-1], value), (True, False))
                         self.assertIs(type(getattr(module, name)(*given[:-1], value)), bool)
@@ -108,6 +122,27 @@ class InterfaceTest(Case):
         self.fails("InvalidNumber", True, ratios.lowest, True, 0)
         self.fails("InvalidNumber", None, towers.with_letter, BALL, None, None)
         self.fails("InvalidNumber", None, classes.is_class_basis, BALL, None, None)
+
+    def test_the_first_of_two_wrong_arguments_decides_for_classes_and_ends(self):
+        for call, given, name in [
+            (rings.class_products, (BALL, None, None, None), "InvalidOperation"),
+            (rings.class_products, (None, (), (), ()), "InvalidTower"), (rings.is_product, (BALL, 0, None), "InvalidNumber"),
+            (rings.is_product, (BALL, 1, None), "InvalidSum"), (rings.is_product, (None, 0, None), "InvalidTower"),
+            (weights.is_weighting, (None, None), "InvalidTower"),
+            (weights.weight_words, ((0,), (0,), -1, -1), "InvalidLetters"),
+            (weights.weight_words, ((2,), (0,), -1, -1), "InvalidOperation"),
+            (weights.weight_count, (BALL, (1, 1), -1, -1), "InvalidOperation"),
+            (weights.signed_number, ((0,), (0,), -1), "InvalidLetters"),
+            (ends.is_end_paper, (None, None), "InvalidTower"),
+        ]:
+            self.fails(name, 0 if name == "InvalidNumber" else None, call, *given)
+        self.fails("InvalidNumber", 61, rings.pairing_rank, BALL, 61, -1)
+        self.fails("InvalidNumber", 0, rings.product_count, BALL, 0, -1)
+        self.fails("InvalidNumber", 81, weights.weight_count, BALL, (1, 2), 81, 61)
+        self.fails("InvalidNumber", 0, built.projective, 0, 0)
+        self.fails("InvalidNumber", 0, built.spaces, 0, 0)
+        self.fails("InvalidNumber", -1, built.box_count, -1, 41, 1601)
+        self.fails("InvalidNumber", 41, built.turn_count, 41, 781)
 
     def test_returned_dicts_ascend(self):
         for a_sum in (X + Sum((2, 3), {(0, 1): 1}), X * X + X, BALL.step(Sum((2, 3), {(0, 1): 1, (3, 1): 2}))):

@@ -7,14 +7,17 @@ import unittest
 
 from stepletters import errors
 from stepletters.base import ratios, tables
-from stepletters.classes import classes
+from stepletters.built import built
+from stepletters.classes import classes, rings, weights
+from stepletters.plain import ends
 from stepletters.towers import towers
 from stepletters.words import sums, words
 from support import KEPT, Case
 
 HERE = os.path.dirname(os.path.abspath(__file__))
 DOCUMENT = os.path.join(HERE, "..", "..", "shared", "DOC.md")
-STAGES = {1: (ratios, tables), 2: (words,), 3: (sums,), 4: (sums, towers), 5: (classes,)}
+STAGES = {1: (ratios, tables), 2: (words,), 3: (sums,), 4: (sums, towers), 5: (classes,), 6: (rings,), 7: (weights,),
+          8: (ends,), 18: (built,)}
 
 
 def told(stage):
@@ -45,7 +48,7 @@ def outcome(code, names):
     if isinstance(ast.parse(code).body[0], ast.Expr):
         try:
             return repr(eval(code, names))
-        except (errors.StepError, errors.InvalidNumber, errors.TooMany) as error:
+        except (errors.StepError, errors.InvalidNumber, errors.TooMany, errors.Refused) as error:
             name = type(error).__name__
             return f"raises {name}({getattr(error, KEPT[name])!r})" if name in KEPT else f"raises {name}"
     exec(code, names)
@@ -56,7 +59,7 @@ class ExamplesTest(Case):
     def check_stage(self, stage):
         names = names_of(stage)
         pairs = told(stage)
-        self.assertGreater(len(pairs), 5)
+        self.assertGreater(len(pairs), 4)
         for code, wanted in pairs:
             with self.subTest(code=code):
                 self.assertEqual(outcome(code, names), wanted)
@@ -75,6 +78,18 @@ class ExamplesTest(Case):
 
     def test_classes(self):
         self.check_stage(5)
+
+    def test_rings(self):
+        self.check_stage(6)
+
+    def test_weights(self):
+        self.check_stage(7)
+
+    def test_ends(self):
+        self.check_stage(8)
+
+    def test_built_towers(self):
+        self.check_stage(18)
 
     @unittest.skipUnless(os.path.exists(DOCUMENT), "the document is not here")
     def test_the_examples_are_those_of_the_document(self):

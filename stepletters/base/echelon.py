@@ -10,6 +10,8 @@ from math import gcd, lcm
 
 from stepletters.base.exact import ZERO, reduced
 
+_PRIME = 2 ** 31 - 1
+
 
 def echelon(rows):
     """The reduced lot that makes the same rows as the given ones."""
@@ -43,6 +45,34 @@ def left_over(lot, row):
     for lead in leads:
         _take_away(rest, rest[lead] // lot[lead][lead], lot[lead])
     return _shortest(rest)
+
+
+def independent_places(rows, width):
+    """Places of rows that are independent up to multiples of one prime.
+
+    So they are independent at all. That there are more such rows at all is rare, and
+    as the numbers stay short, they are found much faster than a reduced lot.
+    """
+    lot = {}
+    found = []
+    for at, row in enumerate(rows):
+        if len(found) == width:
+            break
+        rest = {column: number % _PRIME for column, number in row.items() if number % _PRIME != 0}
+        while len(rest) > 0 and min(list(rest)) in lot:
+            column = min(list(rest))
+            _take_away_by_prime(rest, rest[column], lot[column])
+        if len(rest) > 0:
+            column = min(list(rest))
+            inverse = _inverse_by_prime(rest[column])
+            lot[column] = {place: number * inverse % _PRIME for place, number in rest.items()}
+            found.append(at)
+    return found
+
+
+def are_all_made(rows, width):
+    """Whether rows make each row of the width."""
+    return len(independent_places(rows, width)) == width or len(echelon(rows)) == width
 
 
 def kernel_rows(rows, width):
@@ -120,6 +150,26 @@ def _take_away(rest, factor, row):
             rest[column] = left
         elif column in rest:
             del rest[column]
+
+
+def _take_away_by_prime(rest, factor, row):
+    for column, number in row.items():
+        left = (rest.get(column, 0) - factor * number) % _PRIME
+        if left != 0:
+            rest[column] = left
+        elif column in rest:
+            del rest[column]
+
+
+def _inverse_by_prime(number):
+    """The integer that makes 1 with another one, up to multiples of the prime."""
+    high, low = _PRIME, number
+    before, now = 0, 1
+    while low > 1:
+        times = high // low
+        high, low = low, high - times * low
+        before, now = now, before - times * now
+    return now % _PRIME
 
 
 def _shortest(row):

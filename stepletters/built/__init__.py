@@ -1,0 +1,1 @@
+"""Towers that are built by a rule."""
