@@ -193,16 +193,49 @@ def slow_is_step(tower, a_sum):
     return slow_rank(rows + [slow_row(tower, a_sum, a_sum.degree)]) == slow_rank(rows)
 
 
+def slow_even_words(letters, degree):
+    """The ascending list of all words of a degree without odd letters."""
+    evens = tuple(letter for letter in letters if letter % 2 == 0)
+    found = []
+    for word in slow_words(evens, degree):
+        rest = list(word)
+        found.append(tuple(0 if letter % 2 else rest.pop(0) for letter in letters))
+    return found
+
+
 def slow_even_rank(tower, degree):
     """The number of even words of a degree, and how many sums of them the plain tower's steps make."""
-    odds = [index for index, letter in enumerate(tower.letters) if letter % 2]
+    letters = tower.letters
+    odds = [index for index, letter in enumerate(letters) if letter % 2]
     steps = [{word: number for word, number in step.terms.items() if not any(word[index] for index in odds)}
              for step in tower.steps]
-    evens = [word for word in slow_words(tower.letters, degree) if not any(word[index] for index in odds)]
-    ones = [word for word in slow_words(tower.letters, degree - 1) if sum(word[index] for index in odds) == 1]
-    steps = [step if letter % 2 else {} for letter, step in zip(tower.letters, steps)]
-    found = [slow_step(tower.letters, steps, {word: 1}) for word in ones]
-    return len(evens), slow_rank([[step.get(word, Fraction(0)) for word in evens] for step in found])
+    steps = [step if letter % 2 else {} for letter, step in zip(letters, steps)]
+    evens = slow_even_words(letters, degree)
+    rows = []
+    for index in odds:
+        for word in slow_even_words(letters, degree - 1 - letters[index]):
+            step = slow_step(letters, steps, {word[:index] + (1,) + word[index + 1:]: 1})
+            rows.append([step.get(other, Fraction(0)) for other in evens])
+    return len(evens), rank_by_prime(rows)
+
+
+def rank_by_prime(rows, prime=2 ** 61 - 1):
+    """The rank of rows of fractions up to multiples of a prime: the rank itself, but for rare bad luck."""
+    rows = [[number.numerator * pow(number.denominator, -1, prime) % prime for number in map(Fraction, row)] for row in rows]
+    found = 0
+    for column in range(len(rows[0]) if rows else 0):
+        lead = next((row for row in rows if row[column]), None)
+        if lead is None:
+            continue
+        found += 1
+        inverse = pow(lead[column], -1, prime)
+        lead = [number * inverse % prime for number in lead]
+        rest = []
+        for row in rows:
+            factor = row[column]
+            rest.append([(a - factor * b) % prime for a, b in zip(row, lead)] if factor else row)
+        rows = [row for row in rest if any(row)]
+    return found
 
 
 def slow_series(over, under, most):

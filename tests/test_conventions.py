@@ -6,8 +6,8 @@ import unittest
 from stepletters.base import ratios, tables
 from stepletters.built import built
 from stepletters.classes import classes, rings, weights
-from stepletters.plain import ends
-from stepletters.towers import towers
+from stepletters.plain import degrees, ends, grades
+from stepletters.towers import lengths, towers
 from stepletters.towers.towers import Tower
 from stepletters.words import sums, words
 from stepletters.words.sums import Sum
@@ -41,9 +41,14 @@ INTERFACE = {
            "is_end_paper": (BALL, None), "top_class": (BALL,), "total_count": (BALL,)},
     built: {"sphere": (4,), "projective": (2, 3), "special_group": (3,), "spaces": (2, 4), "flags": (3,),
             "box_count": (2, 3, 4), "turn_count": (4, 3)},
+    grades: {"grade_count": (BALL, 1, 5), "left_count": (BALL, 2), "grade_row": (BALL, 0), "top_grade": (BALL,)},
+    degrees: {"is_made": (10, (4, 6)), "barring_lots": ((4, 6), (9, 9)), "can_end": ((4, 6), (9, 9)),
+              "degrees_paper": ((4, 6), (9, 23)), "is_degrees_paper": ((4, 6), (9, 23), None)},
+    lengths: {"step_length": (BALL,), "length_part": (X, 1), "length_count": (BALL, 2, 1), "length_row": (BALL, 4),
+              "length_weights": (BALL,), "top_length": (BALL,), "is_one_length": (BALL, None)},
 }
 # These ask for something of what is passed to them, and have no parameter `value`.
-ASKING = ("is_product", "does_end")
+ASKING = ("is_product", "does_end", "is_made", "can_end")
 METHODS = {Sum: "letter one letters terms is_level degree number_at part __add__ __sub__ __neg__ __mul__ __eq__ "
                 "__contains__ __len__ __bool__ __iter__ __str__",
            Tower: "letters steps size is_plain step is_closed letter_sum __eq__ __len__ __str__"}
@@ -143,6 +148,12 @@ class InterfaceTest(Case):
         self.fails("InvalidNumber", 0, built.spaces, 0, 0)
         self.fails("InvalidNumber", -1, built.box_count, -1, 41, 1601)
         self.fails("InvalidNumber", 41, built.turn_count, 41, 781)
+        self.fails("InvalidNumber", 25, grades.grade_count, BALL, 25, 81)
+        self.fails("InvalidNumber", -1, degrees.is_made, -1, None)
+        self.fails("InvalidNumber", 61, lengths.length_count, BALL, 61, 81)
+        for call in (grades.grade_count, lengths.length_count):
+            self.fails("InvalidTower", None, call, None, -1, -1)
+        self.fails("InvalidSum", None, lengths.length_part, None, -1)
 
     def test_returned_dicts_ascend(self):
         for a_sum in (X + Sum((2, 3), {(0, 1): 1}), X * X + X, BALL.step(Sum((2, 3), {(0, 1): 1, (3, 1): 2}))):

@@ -9,15 +9,15 @@ from stepletters import errors
 from stepletters.base import ratios, tables
 from stepletters.built import built
 from stepletters.classes import classes, rings, weights
-from stepletters.plain import ends
-from stepletters.towers import towers
+from stepletters.plain import degrees, ends, grades
+from stepletters.towers import lengths, towers
 from stepletters.words import sums, words
 from support import KEPT, Case
 
 HERE = os.path.dirname(os.path.abspath(__file__))
 DOCUMENT = os.path.join(HERE, "..", "..", "shared", "DOC.md")
 STAGES = {1: (ratios, tables), 2: (words,), 3: (sums,), 4: (sums, towers), 5: (classes,), 6: (rings,), 7: (weights,),
-          8: (ends,), 18: (built,)}
+          8: (ends,), 9: (grades,), 10: (degrees,), 11: (sums, towers, lengths), 18: (built,)}
 
 
 def told(stage):
@@ -87,6 +87,15 @@ class ExamplesTest(Case):
 
     def test_ends(self):
         self.check_stage(8)
+
+    def test_grades(self):
+        self.check_stage(9)
+
+    def test_degrees(self):
+        self.check_stage(10)
+
+    def test_lengths(self):
+        self.check_stage(11)
 
     def test_built_towers(self):
         self.check_stage(18)
