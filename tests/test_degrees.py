@@ -220,6 +220,9 @@ class PapersTest(Case):
         self.assertIs(is_degrees_paper((2,), (3, 5), ("tower", ({}, {(3,): 2}))), True)
         self.assertIs(is_degrees_paper((2,), (3, 5), ("tower", ({(2,): 2}, {}))), True)
         self.assertIs(is_degrees_paper((2,), (3, 5), ("tower", ({}, {}))), False)
+        # an exponent below 0
+        self.assertIs(is_degrees_paper((2, 2), (3, 3), ("tower", ({(2, 0): 1}, {(0, 2): 1, (3, -1): 1}))), False)
+        self.assertIs(is_degrees_paper((2, 4), (3, 7), ("tower", ({(2, 0): 1, (4, -1): 1}, {(0, 2): 1}))), False)
         # a word of the length 1
         self.assertIs(is_degrees_paper((2, 4), (3, 7), ("tower", ({(2, 0): 1}, {(0, 2): 1}))), True)
         self.assertIs(is_degrees_paper((2, 4), (3, 7), ("tower", ({(2, 0): 1, (0, 1): 1}, {(0, 2): 1}))), False)
@@ -271,10 +274,11 @@ class PapersTest(Case):
 
     def test_150_even_words_and_more(self):
         # 120, 136 and 153 words at 28, 30 and 32
-        for odds, bound in [((9, 9, 9, 3), 27), ((9, 9, 13), 28), ((9, 9, 11, 3), 29), ((11, 11, 11), 30)]:
+        for odds, bound in [((9, 9, 9, 3), 27), ((9, 9, 13), 28), ((9, 9, 11, 3), 29), ((11, 11, 11), 30),
+                            ((11, 11, 9, 3), 31)]:
             self.same(top_degree((2, 2, 2) + odds), bound)
             self.assertIs(can_end((2, 2, 2), odds), True)
-            if bound + 2 < 32:
+            if bound < 30:
                 paper = degrees_paper((2, 2, 2), odds)
                 self.assertIs(is_degrees_paper((2, 2, 2), odds, paper), True)
             else:

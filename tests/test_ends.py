@@ -148,6 +148,15 @@ class EndsTest(Case):
         self.same(top_degree(tall.letters), 29)
         self.assertGreater(word_count((4, 4, 4, 4, 38), 32), 120)
         self.fails("TooMany", 120, does_end, tall)
+        # at N + 1 alone: N is 29
+        first = Tower((2, 2, 2, 9, 9, 11, 3), ({},) * 7)
+        self.same((top_degree(first.letters), word_count((2, 2, 2), 30)), (29, 136))
+        self.fails("TooMany", 120, does_end, first)
+        # with N as 0 they are counted, with N below 0 not
+        nought = (2,) * 6 + (20,)
+        self.same([top_degree(nought + (odd,)) for odd in (25, 23)], [0, -2])
+        self.fails("TooMany", 120, does_end, Tower(nought + (25,), ({},) * 8))
+        self.assertIs(does_end(Tower(nought + (23,), ({},) * 8)), False)
         # with N below 0 nothing is counted
         self.assertIs(does_end(Tower((2,) * 24, ({},) * 24)), False)
         self.same(end_paper(Tower((2,) * 24, ({},) * 24)), ("test", 0, (1,)))

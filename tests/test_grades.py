@@ -241,6 +241,11 @@ class ErrorsTest(Case):
         beyond = Tower((2, 2, 2, 3, 3, 3, 3, 3), ({},) * 3 + tuple(squares) + ({},) * 2)
         self.same([word_count(beyond.letters, degree) > 150 for degree in range(14)], [False] * 13 + [True])
         self.fails("TooMany", 150, grade_row, beyond, 2)
+        # N is 16; 156 words at 18 do not count
+        within = Tower((2, 2, 4, 3, 3, 3, 5, 7), ({}, {}, {}, {(2,) + (0,) * 7: 1}, {(0, 2) + (0,) * 6: 1}, {}, {},
+                                                  {(0, 0, 2) + (0,) * 5: 1}))
+        self.same([word_count(within.letters, degree) for degree in (17, 18)], [133, 156])
+        self.same([grade_row(within, grade)[16] for grade in range(4)], [0, 0, 1, 0])
 
     def test_untrue_statements(self):
         # [9.6]

@@ -50,15 +50,16 @@ def pairing_rank(tower, degree, top):
     basis = class_basis(tower, top)
     if len(basis) != 1:
         raise InvalidOperation("the top does not have just one class")
-    numbers = class_paper(tower, basis[0])[1]
-    values = {word: numbers[at] for at, word in enumerate(listed_words(tower.letters, top))}
-    words = listed_words(tower.letters, top - degree)
-    others = [whole_multiple(row_of_sum(words, other)) for other in class_basis(tower, top - degree)]
-    table = []
+    values = class_paper(tower, basis[0])[1]
+    table = _word_table(tower.letters, degree, top, values)
+    words, others = [listed_words(tower.letters, at) for at in (degree, top - degree)]
+    second = [whole_multiple(row_of_sum(others, other)) for other in class_basis(tower, top - degree)]
+    rows = []
     for a_sum in class_basis(tower, degree):
-        told = _values_beside(tower.letters, values, a_sum, words)
-        table.append(sparse([pairing(told, other) for other in others]))
-    return len(echelon(table))
+        one = whole_multiple(row_of_sum(words, a_sum))
+        told = [pairing(column, one) for column in table]
+        rows.append(sparse([pairing(told, other) for other in second]))
+    return len(echelon(rows))
 
 
 def product_count(tower, many, degree):
@@ -118,19 +119,22 @@ def _check_listed_to(tower, degree):
     check_listed(tower.letters, list(range(degree + 2)), MAX_LISTED)
 
 
-def _values_beside(letters, values, a_sum, words):
-    """For each of some words the value of the sum times this word; all times one integer."""
+def _word_table(letters, degree, top, values):
+    """For each word that the degree lacks to the top the values of its products with words of the degree.
+
+    `values` are those of the words of the top.
+    """
     odds = odd_indices(letters)
-    numbers = whole_multiple(a_sum.terms)
+    places = {word: at for at, word in enumerate(listed_words(letters, top))}
+    words = listed_words(letters, degree)
     found = []
-    for other in words:
-        value = 0
-        for word, number in numbers.items():
+    for other in listed_words(letters, top - degree):
+        column = []
+        for word in words:
             joined = joined_words(odds, word, other)
-            if joined is not None:
-                value += joined[0] * number * values[joined[1]]
-        found.append(value)
-    return tuple(found)
+            column.append(0 if joined is None else joined[0] * values[places[joined[1]]])
+        found.append(column)
+    return found
 
 
 def _frames(tower, most):
