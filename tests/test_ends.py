@@ -12,7 +12,7 @@ from stepletters.plain.ends import (does_end, end_paper, euler_number, is_end_pa
 from stepletters.towers.towers import Tower, beside, plain_tower
 from stepletters.words.sums import Sum, power
 from stepletters.words.words import even_letters, word_count
-from support import (BALL, BENT, BOTH, CROSS, EMPTY, FULL, HALF, HUGE, KNIT, KNOT, LONG, LONGER, OPEN, PLANE, SIXTY, TWIST,
+from support import (BALL, BENT, BOTH, CROSS, EMPTY, FULL, HALF, HUGE, KNIT, KNOT, LONG, OPEN, PLANE, SIXTY, TWIST,
                      Case, any_values, fraction, slow_even_rank, slow_is_step, slow_words)
 
 APART = Tower((4, 4, 7), ({}, {}, {(1, 1, 0): 1}))

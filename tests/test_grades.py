@@ -1,6 +1,5 @@
 """Stage 9, grades of plain towers: [9.1] to [9.6]."""
 
-import itertools
 import unittest
 
 from stepletters.built.built import flags, projective, spaces, special_group, sphere
@@ -9,11 +8,11 @@ from stepletters.classes.weights import plain_weighting, signed_number, weight_c
 from stepletters.plain import grades
 from stepletters.plain.ends import does_end, top_class, top_degree
 from stepletters.plain.grades import grade_count, grade_row, left_count, top_grade
-from stepletters.towers.towers import Tower, beside, plain_tower, with_letter
+from stepletters.towers.towers import Tower, beside, plain_tower
 from stepletters.words.sums import Sum
 from stepletters.words.words import word_count
 from support import (BALL, BENT, BOTH, CROSS, EMPTY, FULL, HALF, HUGE, KNIT, KNOT, LONG, LONGER, OPEN, OVER, PLANE, ROW, TWIST,
-                     Case, any_values, slow_block_number, slow_class_number, slow_even_rank, slow_series, slow_words)
+                     Case, any_values, slow_block_number, slow_class_number, slow_even_rank, slow_series)
 
 LAST = Tower((2, 3, 5), ({}, {(2, 0, 0): 1}, {(3, 0, 0): 1}))
 EXTRA = Tower((2, 3, 3), ({}, {(2, 0, 0): 1}, {}))

@@ -12,7 +12,6 @@ from stepletters.towers.lengths import (is_one_length, length_count, length_part
                                         top_length)
 from stepletters.towers.towers import Tower, beside, quadratic_tower
 from stepletters.words.sums import Sum, power
-from stepletters.words.words import word_count
 from support import (BALL, BENT, BOTH, CROSS, EMPTY, FULL, HALF, HUGE, KNIT, KNOT, LONG, LONGER, OPEN, OVER, PLANE, ROW, SIXTY,
                      TWIST, Case, any_values, slow_block_number, slow_class_number, slow_words)
 

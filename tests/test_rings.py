@@ -2,7 +2,6 @@
 
 import itertools
 import unittest
-from fractions import Fraction
 
 from stepletters.built.built import flags, projective, spaces, special_group, sphere
 from stepletters.classes import rings
@@ -12,7 +11,7 @@ from stepletters.plain.ends import top_degree
 from stepletters.towers.towers import Tower, beside, with_letter
 from stepletters.words.sums import Sum, power
 from stepletters.words.words import word_count
-from support import (BALL, BENT, BOTH, CROSS, EMPTY, FULL, HALF, HUGE, KNIT, KNOT, LONGER, OPEN, OVER, PLANE, ROW, SAMPLES,
+from support import (BALL, BENT, BOTH, CROSS, EMPTY, FULL, HALF, HUGE, KNIT, KNOT, LONGER, OVER, PLANE, ROW, SAMPLES,
                      SIXTY, TWIST, Case, any_values, fraction, slow_class_number, slow_rank, slow_row, slow_step_rows,
                      slow_words)
 

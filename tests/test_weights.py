@@ -3,9 +3,9 @@
 import itertools
 import unittest
 
-from stepletters.built.built import flags, projective, spaces, special_group, sphere
+from stepletters.built.built import flags, spaces, special_group
 from stepletters.classes import weights
-from stepletters.classes.classes import class_basis, class_count, class_paper, class_row
+from stepletters.classes.classes import class_basis, class_paper
 from stepletters.classes.weights import (is_weighting, plain_weighting, signed_number, weight_count, weight_row,
                                          weight_words)
 from stepletters.plain.ends import top_degree
