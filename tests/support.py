@@ -5,6 +5,8 @@ import unittest
 from fractions import Fraction
 
 from stepletters import errors
+from stepletters.algebras.algebras import Algebra
+from stepletters.desk.desk import Desk
 from stepletters.towers.towers import Tower
 from stepletters.words.sums import Sum
 
@@ -31,7 +33,8 @@ def any_values():
         {}, {1: 2}, {"a": 1}, {(1,): 1}, {(1, 0): 1}, {(0, 0): (1, 2)}, {(): 1}, {None: 1}, {(2, 0): None},
         ("test", ()), ("step", None), ("numbers", ()), ("test", (1,)), ["test", (1,)], ("test", [1]), ("test", 1, 2),
         Sum((2, 3), {}), Sum((2, 3), {(1, 0): 1}), Sum((), {(): 1}), ball, Tower((), ()),
-        (Sum((2, 3), {}),), (ball,), errors.InvalidNumber(3),
+        (Sum((2, 3), {}),), (ball,), errors.InvalidNumber(3), Algebra((2,), {}), Algebra((2, 4), {(0, 0): {1: 1}}), Desk(),
+        (Algebra((), {}),), ("equal", "f", "f"), "letters 2", ({},), ({}, {}), {(0, 0): {0: 1}},
     ]
 
 

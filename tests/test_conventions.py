@@ -3,18 +3,28 @@
 import inspect
 import unittest
 
+from stepletters import errors
+from stepletters.algebras import algebras, least, loops
+from stepletters.algebras.algebras import Algebra
 from stepletters.base import ratios, tables
 from stepletters.built import built
-from stepletters.classes import classes, rings, weights
+from stepletters.classes import classes, rings, triples, weights
+from stepletters.desk import desk
+from stepletters.desk.desk import Desk
 from stepletters.plain import degrees, ends, grades
-from stepletters.towers import lengths, towers
+from stepletters.text import strings
+from stepletters.towers import brackets, lengths, maps, towers
 from stepletters.towers.towers import Tower
 from stepletters.words import sums, words
 from stepletters.words.sums import Sum
 from support import Case, any_values
 
 BALL = Tower((2, 3), ({}, {(2, 0): 1}))
-X = Sum.letter((2, 3), 0)
+X, Y = Sum.letter((2, 3), 0), Sum.letter((2, 3), 1)
+NIL = Tower((1, 1, 1), ({}, {}, {(1, 1, 0): 1}))
+A, B = Sum.letter((1, 1, 1), 0), Sum.letter((1, 1, 1), 1)
+TABLE = ({}, {}, {(0, 1): 1})
+PLANE = Algebra((2, 4), {(0, 0): {1: 1}})
 
 # Each function of the interface by its module, with arguments that it takes.
 INTERFACE = {
@@ -46,12 +56,33 @@ INTERFACE = {
               "degrees_paper": ((4, 6), (9, 23)), "is_degrees_paper": ((4, 6), (9, 23), None)},
     lengths: {"step_length": (BALL,), "length_part": (X, 1), "length_count": (BALL, 2, 1), "length_row": (BALL, 4),
               "length_weights": (BALL,), "top_length": (BALL,), "is_one_length": (BALL, None)},
+    brackets: {"brackets_fault": (TABLE,), "is_brackets": (None,), "bracket_of": (TABLE, (1, 0, 0), (0, (1, 2), 3)),
+               "tower_of_brackets": (TABLE,), "brackets_of": (NIL,), "falling_row": (TABLE,), "is_like_ring": (NIL,), "reach": (NIL,)},
+    algebras: {"algebra_fault": ((2, 4), {(0, 0): {1: 1}}), "beside_algebras": (PLANE, PLANE), "joined": (PLANE, PLANE),
+               "connected": (PLANE, PLANE), "is_paired": (PLANE,)},
+    least: {"least_tower": (PLANE, 6), "letter_counts": (PLANE, 6), "is_least_tower": (PLANE, 6, None)},
+    loops: {"loop_series": ((2, 3), 5), "counts_of_series": ((1, 2, 3),), "series_of_counts": ((1, -1),),
+            "free_counts": ((3, 2), 7), "paired_counts": (2, 3, 7)},
+    maps: {"map_fault": (BALL, BALL, (X, Y)), "is_map": (BALL, BALL, None), "led": (BALL, BALL, (X, Y), X * Y),
+           "composed": (BALL, BALL, BALL, (X, Y), (X, Y)), "linear_part": (BALL, BALL, (X, Y), 2), "class_map": (BALL, BALL, (X, Y), 2)},
+    triples: {"triple": (NIL, A, A, B), "is_triple": (NIL, A, A, B, None), "triple_sum": (NIL, A, A, A, (A, A - A)),
+              "triple_paper": (NIL, A, A, B), "is_triple_paper": (NIL, A, A, B, None)},
+    strings: {"kind_of_text": ("letters 2",), "read_value": ("sum 2 ; 1 : 1",), "is_text": (None,)},
 }
 # These ask for something of what is passed to them, and have no parameter `value`.
-ASKING = ("is_product", "does_end", "is_made", "can_end")
+ASKING = ("is_product", "does_end", "is_made", "can_end", "is_like_ring", "is_paired")
 METHODS = {Sum: "letter one letters terms is_level degree number_at part __add__ __sub__ __neg__ __mul__ __eq__ "
                 "__contains__ __len__ __bool__ __iter__ __str__",
-           Tower: "letters steps size is_plain step is_closed letter_sum __eq__ __len__ __str__"}
+           Tower: "letters steps size is_plain step is_closed letter_sum __eq__ __len__ __str__",
+           Algebra: "degrees size products top unit product row __eq__ __len__ __str__",
+           Desk: "keep put_beside make_plain grow cut drop claim let_go undo redo during tower claimed names labels deeds twin "
+                 "__contains__ __len__ __eq__ __str__"}
+CONSTANTS = {words: "MAX_LETTERS MAX_LETTER MAX_DEGREE MAX_WORDS", tables: "MAX_SIDE", sums: "MAX_TERMS MAX_PAIRS MAX_POWER",
+             classes: "MAX_LISTED MAX_CLASSED", rings: "MAX_FACTORS MAX_FACTORED", weights: "MOST_WEIGHT MAX_WEIGHTED MAX_WORDS_TOLD",
+             ends: "MAX_EVEN", grades: "MOST_GRADE", degrees: "MAX_EVENS MAX_ODDS MAX_SHOWN MAX_LISTED", lengths: "MAX_LENGTH",
+             brackets: "MOST_UNITS", algebras: "MAX_UNITS MAX_UNIT_DEGREE", least: "MAX_GROWN MAX_WIDTH", loops: "MOST_LOOP MOST_UNITS",
+             maps: "MAX_MAPPED", triples: "MAX_LISTED MAX_TOLD", desk: "MAX_KEPT MAX_CLAIMS MAX_CLAIMED",
+             strings: "MAX_TEXT MAX_INTEGERS KINDS"}
 
 
 def plain(value):
@@ -60,6 +91,8 @@ def plain(value):
         return ("sum", value.letters, value.terms)
     if isinstance(value, Tower):
         return ("tower", value.letters, tuple(plain(step) for step in value.steps))
+    if isinstance(value, Algebra):
+        return ("algebra", value.degrees, value.products)
     if isinstance(value, tuple):
         return tuple(plain(part) for part in value)
     if inspect.isgenerator(value):
@@ -88,6 +121,11 @@ class InterfaceTest(Case):
             for name in names.split():
                 self.assertIn(name, vars(kind))
         self.assertEqual((Sum.__module__, Tower.__module__), (sums.__name__, towers.__name__))
+        self.assertEqual((Algebra.__module__, Desk.__module__), (algebras.__name__, desk.__name__))
+        self.assertEqual(strings.write_value.__module__, strings.__name__)
+        for module, names in CONSTANTS.items():
+            for name in names.split():
+                self.assertIn(name, vars(module))
 
     def test_equal_calls_return_equal_results_of_the_told_kinds(self):
         for module, calls in INTERFACE.items():

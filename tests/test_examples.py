@@ -6,18 +6,24 @@ import re
 import unittest
 
 from stepletters import errors
+from stepletters.algebras import algebras, least, loops
 from stepletters.base import ratios, tables
 from stepletters.built import built
-from stepletters.classes import classes, rings, weights
+from stepletters.classes import classes, rings, triples, weights
+from stepletters.desk import desk
 from stepletters.plain import degrees, ends, grades
-from stepletters.towers import lengths, towers
+from stepletters.text import strings
+from stepletters.towers import brackets, lengths, maps, towers
 from stepletters.words import sums, words
 from support import KEPT, Case
 
 HERE = os.path.dirname(os.path.abspath(__file__))
 DOCUMENT = os.path.join(HERE, "..", "..", "shared", "DOC.md")
 STAGES = {1: (ratios, tables), 2: (words,), 3: (sums,), 4: (sums, towers), 5: (classes,), 6: (rings,), 7: (weights,),
-          8: (ends,), 9: (grades,), 10: (degrees,), 11: (sums, towers, lengths), 18: (built,)}
+          8: (ends,), 9: (grades,), 10: (degrees,), 11: (sums, towers, lengths), 12: (brackets,), 13: (algebras,),
+          14: (towers, algebras, least), 15: (loops,), 16: (maps,), 17: (sums, towers, triples), 18: (built,),
+          19: (towers, desk), 20: (sums, towers, algebras, strings)}
+ERRORS = (errors.StepError, errors.InvalidNumber, errors.UnknownName, errors.TooMany, errors.Refused, errors.NothingToUndo)
 
 
 def told(stage):
@@ -48,7 +54,7 @@ def outcome(code, names):
     if isinstance(ast.parse(code).body[0], ast.Expr):
         try:
             return repr(eval(code, names))
-        except (errors.StepError, errors.InvalidNumber, errors.TooMany, errors.Refused) as error:
+        except ERRORS as error:
             name = type(error).__name__
             return f"raises {name}({getattr(error, KEPT[name])!r})" if name in KEPT else f"raises {name}"
     exec(code, names)
@@ -96,6 +102,30 @@ class ExamplesTest(Case):
 
     def test_lengths(self):
         self.check_stage(11)
+
+    def test_brackets(self):
+        self.check_stage(12)
+
+    def test_algebras(self):
+        self.check_stage(13)
+
+    def test_least_towers(self):
+        self.check_stage(14)
+
+    def test_loops(self):
+        self.check_stage(15)
+
+    def test_maps(self):
+        self.check_stage(16)
+
+    def test_triples(self):
+        self.check_stage(17)
+
+    def test_desk(self):
+        self.check_stage(19)
+
+    def test_texts(self):
+        self.check_stage(20)
 
     def test_built_towers(self):
         self.check_stage(18)

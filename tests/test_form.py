@@ -6,6 +6,8 @@ import os
 import re
 import unittest
 
+from stepletters import errors
+
 ROOT = os.path.join(os.path.dirname(os.path.abspath(__file__)), "..")
 PACKAGE = "stepletters"
 
@@ -40,7 +42,7 @@ BARRED_NAMES = (
 ).split()
 STATEMENTS = (
     ast.Assign, ast.AugAssign, ast.If, ast.While, ast.For, ast.Return, ast.Break, ast.Continue, ast.Pass, ast.Raise,
-    ast.Assert, ast.Delete, ast.Expr, ast.FunctionDef,
+    ast.Assert, ast.Delete, ast.Expr, ast.FunctionDef, ast.Try,
 )
 
 
@@ -204,8 +206,8 @@ class StatementsTest(unittest.TestCase):
                         self.assertTrue(is_yield, f"{path}:{node.lineno}")
 
     def test_no_floats_no_division_no_walrus_on_values(self):
-        for place, node in nodes((ast.Constant, ast.BinOp, ast.AugAssign, ast.Lambda, ast.Try, ast.Global)):
-            self.assertNotIsInstance(node, (ast.Try, ast.Global, ast.Lambda), place)
+        for place, node in nodes((ast.Constant, ast.BinOp, ast.AugAssign, ast.Lambda, ast.Global)):
+            self.assertNotIsInstance(node, (ast.Global, ast.Lambda), place)
             if isinstance(node, ast.Constant):
                 self.assertNotIsInstance(node.value, (float, complex), place)
             else:
@@ -226,6 +228,34 @@ class StatementsTest(unittest.TestCase):
             self.assertIsInstance(node.exc, ast.Call, place)
             self.assertIsInstance(node.exc.func, ast.Name, place)
             self.assertIsNone(node.cause, place)
+
+    def test_only_own_errors_are_caught(self):
+        own = {node.name for _place, node in nodes(ast.ClassDef) if node.name in vars(errors)}
+        for place, node in nodes(ast.Try):
+            for handler in node.handlers:
+                kinds = handler.type.elts if isinstance(handler.type, ast.Tuple) else [handler.type]
+                for kind in kinds:
+                    self.assertIn(kind.id, own, place)
+            # what stands in a `finally` is a plain assignment of names to names and attributes
+            for part in node.finalbody:
+                self.assertIsInstance(part, ast.Assign, place)
+                for inner in ast.walk(part):
+                    self.assertIsInstance(inner, (ast.Assign, ast.Tuple, ast.Name, ast.Attribute, ast.expr_context), place)
+
+    def test_classes_are_not_values(self):
+        own = {node.name for _place, node in nodes(ast.ClassDef)}
+        for path, _text, tree in FILES:
+            above = parents(tree)
+            for node in ast.walk(tree):
+                if isinstance(node, ast.Name) and node.id in own:
+                    taker = above[node]
+                    if isinstance(taker, ast.Tuple):
+                        taker = above[taker]
+                    place = f"{path}:{node.lineno}"
+                    self.assertIsInstance(taker, (ast.Call, ast.ClassDef, ast.ExceptHandler, ast.Attribute), place)
+                    if isinstance(taker, ast.Call) and taker.func is not node:
+                        self.assertEqual(taker.func.id, "isinstance", place)
+                        self.assertIsNot(taker.args[0], node, place)
 
     def test_no_set_is_kept(self):
         for path, _text, tree in FILES:

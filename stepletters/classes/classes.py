@@ -4,15 +4,15 @@ A sum of a degree is worked with as a row: the numbers of the words of this
 degree, by their places in the ascending sequence of these words.
 """
 
-from stepletters.base.echelon import kernel_rows, pairing, take_in, turned
+from stepletters.base.echelon import pairing, take_in
 from stepletters.base.exact import is_whole, whole_multiple
 from stepletters.base.ratios import check_between
-from stepletters.classes.rows import basis_lot, block_number, check_listed, is_closed_level, ratios_in_basis
-from stepletters.classes.rows import row_of_sum, solved_rows, step_lot, step_rank, step_rows, sum_of_row
-from stepletters.classes.rows import telling_row, whole_rows
+from stepletters.classes.rows import basis_lot, block_number, check_listed, closed_rows, is_closed_level
+from stepletters.classes.rows import ratios_in_basis, row_of_sum, source_of, step_lot, step_rank, step_rows
+from stepletters.classes.rows import sum_of_row, telling_row, whole_rows
 from stepletters.errors import InvalidOperation, TooMany
 from stepletters.towers.towers import check_tower
-from stepletters.words.sums import check_sum, is_sum, made_sum
+from stepletters.words.sums import check_sum, is_sum
 from stepletters.words.words import count_words, listed_words
 
 MAX_LISTED = 150
@@ -53,7 +53,7 @@ def class_basis(tower, degree):
     words = listed_words(tower.letters, degree)
     lot = step_lot(tower, degree)
     found = []
-    for row in kernel_rows(whole_rows(turned(step_rows(tower, degree))), len(words)):
+    for row in closed_rows(tower, degree):
         if take_in(lot, row):
             found.append(sum_of_row(tower.letters, words, row))
     return tuple(found)
@@ -74,14 +74,12 @@ def class_paper(tower, a_sum):
     _check_closed(tower, a_sum)
     if len(a_sum) == 0:
         return ("step", a_sum)
+    source = source_of(tower, a_sum.degree, a_sum)
+    if source is not None:
+        return ("step", source)
     words = listed_words(tower.letters, a_sum.degree)
-    rows = step_rows(tower, a_sum.degree - 1)
-    wanted = row_of_sum(words, a_sum)
-    ratios = solved_rows(rows, wanted)
-    if ratios is None:
-        return ("test", telling_row(whole_rows(rows), whole_multiple(wanted), len(words)))
-    before = listed_words(tower.letters, a_sum.degree - 1)
-    return ("step", made_sum(tower.letters, {word: ratio for word, ratio in zip(before, ratios)}))
+    rows = whole_rows(step_rows(tower, a_sum.degree - 1))
+    return ("test", telling_row(rows, whole_multiple(row_of_sum(words, a_sum)), len(words)))
 
 
 def is_class_paper(tower, a_sum, value):

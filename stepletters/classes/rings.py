@@ -106,6 +106,24 @@ def cup_length(tower, most):
     return length
 
 
+def independent_products(tower, frame, pairs, most):
+    """Independent ones among the products of pairs, at most so many, and a lot with them.
+
+    `frame` are the words of their degree and a lot of its steps, up to which they are independent.
+    """
+    words, steps = frame
+    lot = {lead: row for lead, row in steps.items()}
+    found = []
+    for one, other in pairs:
+        if len(found) == most:
+            break
+        rest = left_over(lot, whole_multiple(row_of_sum(words, one * other)))
+        if len(rest) > 0:
+            take_in(lot, rest)
+            found.append(sum_of_row(tower.letters, words, rest))
+    return found, lot
+
+
 def _check_sums(tower, sums, least):
     if not isinstance(sums, tuple) or not least <= len(sums) <= _MAX_SUMS:
         raise InvalidOperation("not a tuple of so many sums")
@@ -163,7 +181,7 @@ def _second_layer(tower, frames, first):
     """For each degree sums that are needed to make all classes, and the twofold products."""
     makers, layer = [], []
     for degree, frame in enumerate(frames):
-        found, lot = _taken(tower, frame, _pairs(makers, first, degree), len(first[degree]))
+        found, lot = independent_products(tower, frame, _pairs(makers, first, degree), len(first[degree]))
         layer.append(found)
         own = []
         for a_sum in first[degree]:
@@ -179,27 +197,12 @@ def _next_layer(tower, frames, makers, layer):
     # of one of the layer are enough; and they are among those of the layer.
     found = []
     for degree, frame in enumerate(frames):
-        found.append(_taken(tower, frame, _pairs(makers, layer, degree), len(layer[degree]))[0])
+        found.append(independent_products(tower, frame, _pairs(makers, layer, degree), len(layer[degree]))[0])
     return found
 
 
 def _pairs(makers, layer, degree):
     return [(one, other) for at in range(1, degree) for one in makers[at] for other in layer[degree - at]]
-
-
-def _taken(tower, frame, pairs, most):
-    """Independent ones among the products of pairs, at most so many, and a lot with them."""
-    words, steps = frame
-    lot = {lead: row for lead, row in steps.items()}
-    found = []
-    for one, other in pairs:
-        if len(found) == most:
-            break
-        rest = left_over(lot, whole_multiple(row_of_sum(words, one * other)))
-        if len(rest) > 0:
-            take_in(lot, rest)
-            found.append(sum_of_row(tower.letters, words, rest))
-    return found, lot
 
 
 def _has_sums(layer):

@@ -52,11 +52,31 @@ def step_lot(tower, degree):
     return echelon(whole_rows(step_rows(tower, degree - 1)))
 
 
+def word_rows(tower, words):
+    """The steps of some words, as rows of ratios by the places of the words that these steps have."""
+    steps = _word_steps(tower, words)
+    return _placed_rows(steps, sorted({word for step in steps for word in step}))
+
+
 def step_rank(tower, words):
     """The number of independent ones among the steps of some words."""
-    steps = _word_steps(tower, words)
-    targets = sorted({word for step in steps for word in step})
-    return len(echelon(whole_rows(_placed_rows(steps, targets))))
+    return len(echelon(whole_rows(word_rows(tower, words))))
+
+
+def closed_rows(tower, degree):
+    """Independent rows of integers that make all closed sums of a degree."""
+    words = listed_words(tower.letters, degree)
+    return kernel_rows(whole_rows(turned(word_rows(tower, words))), len(words))
+
+
+def source_of(tower, degree, a_sum):
+    """A sum whose step is a sum that is 0 or has the degree, None if there is none."""
+    wanted = row_of_sum(listed_words(tower.letters, degree), a_sum)
+    ratios = solved_rows(step_rows(tower, degree - 1), wanted)
+    if ratios is None:
+        return None
+    before = listed_words(tower.letters, degree - 1)
+    return made_sum(tower.letters, {word: ratio for word, ratio in zip(before, ratios)})
 
 
 def block_number(tower, words, before):

@@ -93,7 +93,7 @@ class Sum:
         check_sum(self._letters, other)
         if len(self._numbers) * len(other._numbers) > MAX_PAIRS:
             raise TooMany(MAX_PAIRS)
-        return made_sum(self._letters, _joined_numbers(self._letters, self._numbers, other._numbers))
+        return made_sum(self._letters, joined_numbers(self._letters, self._numbers, other._numbers))
 
     def __eq__(self, other):
         return isinstance(other, Sum) and self._letters == other._letters and self._numbers == other._numbers
@@ -184,6 +184,20 @@ def made_sum(letters, numbers):
     return made
 
 
+def joined_numbers(letters, numbers, others):
+    """The product of two sums of right words, told as dicts, however many words they have."""
+    odds = odd_indices(letters)
+    found = {}
+    for one, number in numbers.items():
+        for other, factor in others.items():
+            joined = joined_words(odds, one, other)
+            if joined is not None:
+                sign, word = joined
+                product = multiplied((sign * number[0], number[1]), factor)
+                found[word] = added(found.get(word, ZERO), product)
+    return {word: number for word, number in found.items() if number != ZERO}
+
+
 def ascending(numbers):
     """The dict with ascending words, without those of the ratio 0."""
     return {word: numbers[word] for word in sorted(list(numbers)) if numbers[word] != ZERO}
@@ -208,19 +222,6 @@ def _multiple(a_sum, number):
     if not is_number(number):
         raise InvalidNumber(number)
     return made_sum(a_sum.letters, _scaled_numbers(a_sum.terms, as_ratio(number)))
-
-
-def _joined_numbers(letters, numbers, others):
-    odds = odd_indices(letters)
-    found = {}
-    for one, number in numbers.items():
-        for other, factor in others.items():
-            joined = joined_words(odds, one, other)
-            if joined is not None:
-                sign, word = joined
-                product = multiplied((sign * number[0], number[1]), factor)
-                found[word] = added(found.get(word, ZERO), product)
-    return found
 
 
 def _is_placing(letters, others, value):

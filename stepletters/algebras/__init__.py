@@ -1,0 +1,1 @@
+"""Algebras of told products, their least towers, and what counts the letters of these."""

@@ -1,0 +1,1 @@
+"""A desk that keeps towers and what is claimed of them."""
