@@ -264,6 +264,7 @@ class MadeAlgebrasTest(Case):
             for value in any_values():
                 if not isinstance(value, Algebra):
                     self.fails("InvalidAlgebra", None, call, value, None)
+                    self.fails("InvalidAlgebra", None, call, value, BALL)
                     self.fails("InvalidAlgebra", None, call, BALL, value)
         for value in any_values():
             if not isinstance(value, Algebra):

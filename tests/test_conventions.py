@@ -1,6 +1,8 @@
 """[0.1] to [0.7]: what holds for all functions and classes together."""
 
 import inspect
+import os
+import re
 import unittest
 
 from stepletters import errors
@@ -19,6 +21,7 @@ from stepletters.words import sums, words
 from stepletters.words.sums import Sum
 from support import Case, any_values
 
+DOCUMENT = os.path.join(os.path.dirname(os.path.abspath(__file__)), "..", "..", "shared", "DOC.md")
 BALL = Tower((2, 3), ({}, {(2, 0): 1}))
 X, Y = Sum.letter((2, 3), 0), Sum.letter((2, 3), 1)
 NIL = Tower((1, 1, 1), ({}, {}, {(1, 1, 0): 1}))
@@ -193,6 +196,89 @@ class InterfaceTest(Case):
             self.fails("InvalidTower", None, call, None, -1, -1)
         self.fails("InvalidSum", None, lengths.length_part, None, -1)
 
+    def test_the_first_of_two_wrong_arguments_decides_for_algebras_maps_and_triples(self):
+        for call, given, name in [
+            (brackets.bracket_of, (None, None, None), "InvalidTable"), (brackets.bracket_of, (TABLE, None, None), "InvalidOperation"),
+            (Algebra, (None, None), "InvalidAlgebra"), (PLANE.product, (None, None), "InvalidOperation"),
+            (algebras.beside_algebras, (PLANE, None), "InvalidAlgebra"), (least.least_tower, (None, None), "InvalidAlgebra"),
+            (least.is_least_tower, (BALL, 8, None), "InvalidAlgebra"), (loops.loop_series, ((1,), -1), "InvalidLetters"),
+            (loops.free_counts, ((1,), -1), "InvalidOperation"), (maps.map_fault, (None, None, None), "InvalidTower"),
+            (maps.led, (BALL, BALL, None, None), "InvalidMap"), (maps.led, (BALL, BALL, (X, Y), None), "InvalidSum"),
+            (maps.linear_part, (BALL, BALL, (X, X), 0), "InvalidMap"), (maps.composed, (BALL, BALL, None, None, None), "InvalidTower"),
+            (triples.triple, (None, None, None, None), "InvalidTower"), (triples.triple, (NIL, A, None, A - A), "InvalidSum"),
+            (triples.triple_sum, (NIL, A, A - A, A, None), "InvalidOperation"), (strings.read_value, (None,), "ParseError"),
+        ]:
+            self.fails(name, 0 if name == "ParseError" else None, call, *given)
+        self.fails("InvalidNumber", 8, least.is_least_tower, PLANE, 8, None)
+        self.fails("InvalidNumber", 13, loops.paired_counts, 13, 41, 61)
+        self.fails("InvalidNumber", 41, loops.paired_counts, 3, 41, 61)
+        self.fails("InvalidNumber", 61, loops.paired_counts, 3, 3, 61)
+        self.fails("InvalidNumber", 61, maps.class_map, BALL, BALL, (X, Y), 61)
+        self.fails("UnknownName", "texts", strings.write_value, None, kind="texts")
+        self.fails("InvalidOperation", None, strings.write_value, None, kind="sum")
+
+    def test_each_wrong_argument_is_refused_with_an_error_of_the_package(self):
+        own = tuple(value for value in vars(errors).values() if isinstance(value, type))
+        values = any_values()
+        wide = values + [(value,) for value in values] + [(value, value) for value in values] + [{(1, 0): value} for value in values]
+        wide += [(word, value) for word in ("test", "step", "powers", "tower", "lot") for value in values]
+        wide += [("zero", A, value, value) for value in values] + [({}, {}, {(0, 1): value}) for value in values] + [(BALL, value) for value in values]
+        for module, calls in INTERFACE.items():
+            for name, given in calls.items():
+                for at in range(len(given)):
+                    for value in wide:
+                        try:
+                            plain(getattr(module, name)(*given[:at], value, *given[at + 1:]))
+                        except own:
+                            pass
+        for value in wide:
+            kept = Desk()
+            kept.keep("f", BALL)
+            for call in (lambda: Sum((2, 3), value), lambda: Sum.letter((2, 3), value), lambda: X.number_at(value), lambda: X.part(value),
+                         lambda: X.is_level is (value in X), lambda: Tower((2, 3), value), lambda: BALL.step(value), lambda: BALL.letter_sum(value),
+                         lambda: Algebra((2, 4), value), lambda: PLANE.unit(value), lambda: PLANE.product((1, 2, 3), value), lambda: PLANE.row(value),
+                         lambda: kept.keep(value, BALL), lambda: kept.keep("g", value), lambda: kept.put_beside("g", value, "f"),
+                         lambda: kept.put_beside("g", "f", value), lambda: kept.make_plain(value), lambda: kept.grow(value, 3, {}),
+                         lambda: kept.grow("f", value, {}), lambda: kept.grow("f", 3, value), lambda: kept.cut("f", value), lambda: kept.drop(value),
+                         lambda: kept.claim(value, ("ends", "f")), lambda: kept.claim("a", value), lambda: kept.claim("a", ("closed", "f", value)),
+                         lambda: kept.claim("a", ("letters", "f", value)), lambda: kept.claim("a", ("classes", "f", 2, value)),
+                         lambda: kept.claim("a", ("equal", value, value)), lambda: kept.claim("a", (value, "f")), lambda: kept.let_go(value),
+                         lambda: kept.undo(times=value), lambda: kept.redo(times=value), lambda: kept.tower(value), lambda: kept.claimed(value),
+                         lambda: value in kept, lambda: strings.write_value(value, kind="sum"), lambda: strings.write_value(value, kind="integers"),
+                         lambda: strings.write_value(value, kind="algebra"), lambda: strings.write_value((2, 1), kind=value)):
+                try:
+                    call()
+                except own:
+                    pass
+            for thing in (X, BALL, PLANE, kept):
+                self.assertIs(type(thing == value), bool)
+                self.assertIs(thing != value, not thing == value)
+
+    def test_parameters(self):
+        # [0.3]
+        for module, calls in INTERFACE.items():
+            for name, given in calls.items():
+                told = inspect.signature(getattr(module, name)).parameters.values()
+                self.assertEqual([parameter.kind for parameter in told], [inspect.Parameter.POSITIONAL_OR_KEYWORD] * len(given))
+        for call, name, default in ((strings.write_value, "kind", inspect.Parameter.empty), (Desk.undo, "times", 1), (Desk.redo, "times", 1)):
+            parameter = inspect.signature(call).parameters[name]
+            self.assertEqual((parameter.kind, parameter.default), (inspect.Parameter.KEYWORD_ONLY, default))
+
+    @unittest.skipUnless(os.path.exists(DOCUMENT), "the document is not here")
+    def test_names_of_the_document(self):
+        """Each heading of a function tells its name and its parameters; `sum` is a builtin, and so `a_sum` in the code."""
+        with open(DOCUMENT, encoding="utf-8") as file:
+            text = file.read()
+        told = {}
+        for line in re.findall(r"(?m)^### (.*)$", text[text.index("## Stage 1:"):]):
+            for name, names in re.findall(r"(\w+)\(([^)]*)\)", line):
+                told.setdefault(name, []).append(names.replace("sum", "a_sum").replace("*, ", "").split(", ") if names else [])
+        found = {name: getattr(module, name) for module, calls in INTERFACE.items() for name in calls}
+        found["write_value"] = strings.write_value
+        self.assertEqual(set(told) - {"Sum", "Tower", "Algebra", "Desk"}, set(found))
+        for name, call in found.items():
+            self.assertIn(list(inspect.signature(call).parameters), told[name])
+
     def test_returned_dicts_ascend(self):
         for a_sum in (X + Sum((2, 3), {(0, 1): 1}), X * X + X, BALL.step(Sum((2, 3), {(0, 1): 1, (3, 1): 2}))):
             self.same(list(a_sum.terms), sorted(a_sum.terms))
@@ -201,7 +287,8 @@ class InterfaceTest(Case):
         self.same(list(given), [(3, 0), (0, 0), (1, 1)])
 
     def test_objects_never_change(self):
-        for thing, names in ((X, ("letters", "terms", "is_level", "degree")), (BALL, ("letters", "steps", "size"))):
+        for thing, names in ((X, ("letters", "terms", "is_level", "degree")), (BALL, ("letters", "steps", "size")),
+                             (PLANE, ("degrees", "size", "products", "top")), (Desk(), ("names", "labels", "deeds"))):
             for name in names:
                 with self.assertRaises(AttributeError):
                     setattr(thing, name, None)

@@ -194,7 +194,8 @@ class ClaimsTest(Case):
         # [19.2]
         desk = Desk()
         towers = {"ball": BALL, "same": Tower((2, 3), ({}, {(2, 0): (1, 1)})), "plane": PLANE, "twist": TWIST, "bent": BENT, "knot": KNOT, "open": OPEN,
-                  "empty": EMPTY, "half": HALF, "row": ROW, "full": FULL}
+                  "empty": EMPTY, "half": HALF, "row": ROW, "full": FULL, "wide": Tower((2, 2, 2, 2, 39), ({},) * 5)}
+        self.fails("TooMany", 120, does_end, towers["wide"])
         for name, tower in towers.items():
             desk.keep(name, tower)
         for claim, wanted in [
@@ -212,7 +213,7 @@ class ClaimsTest(Case):
             (("classes", "row", 5, 0), False), (("classes", "row", 2, 45), True), (("classes", "full", 20, 120), True), (("classes", "full", 20, 150), False),
             (("classes", "row", 10, 1), True), (("classes", "row", 20, 0), True),
             (("ends", "ball"), True), (("ends", "twist"), True), (("ends", "open"), False), (("ends", "empty"), True), (("ends", "knot"), False),
-            (("ends", "row"), False), (("ends", "full"), False), (("ends", "bent"), False),
+            (("ends", "row"), False), (("ends", "wide"), False), (("ends", "full"), False), (("ends", "bent"), False),
         ]:
             before = desk.deeds
             if wanted:

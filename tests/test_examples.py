@@ -1,6 +1,7 @@
 """The examples of the document, each compared with what the document prints below it."""
 
 import ast
+import doctest
 import os
 import re
 import unittest
@@ -129,6 +130,15 @@ class ExamplesTest(Case):
 
     def test_built_towers(self):
         self.check_stage(18)
+
+    def test_what_the_readme_shows(self):
+        with open(os.path.join(HERE, "..", "README.md"), encoding="utf-8") as file:
+            text = file.read().replace("```", "")
+        test = doctest.DocTestParser().get_doctest(text, {}, "README.md", None, 0)
+        self.assertGreater(len(test.examples), 30)
+        told = []
+        doctest.DocTestRunner().run(test, out=told.append)
+        self.assertEqual("".join(told), "")
 
     @unittest.skipUnless(os.path.exists(DOCUMENT), "the document is not here")
     def test_the_examples_are_those_of_the_document(self):

@@ -1,18 +1,19 @@
 """Stage 14, least towers: [14.1] to [14.6]."""
 
 import itertools
+import random
 import unittest
 from fractions import Fraction
 
 from stepletters.algebras import least
 from stepletters.algebras.algebras import Algebra, beside_algebras, connected, joined
 from stepletters.algebras.least import is_least_tower, least_tower, letter_counts
-from stepletters.classes.classes import class_row
+from stepletters.classes.classes import class_basis, class_row
 from stepletters.plain.ends import does_end, top_degree
-from stepletters.towers.towers import Tower, beside, cut_tower
+from stepletters.towers.towers import Tower, beside, cut_tower, tower_fault
 from stepletters.words.sums import Sum
 from stepletters.words.words import word_count
-from support import LONGER, SIXTY, Case, any_values, fraction, rank_by_prime, slow_step, slow_words, spelled
+from support import LONGER, SIXTY, Case, any_values, fraction, rank_by_prime, ratio, slow_step, slow_words, spelled
 from test_algebras import CUBE, LONG, MIXED, ODD, TURN, Told, slow_product
 
 POINT, BALL, PLANE = Algebra((), {}), Algebra((2,), {}), Algebra((2, 4), {(0, 0): {1: 1}})
@@ -101,6 +102,23 @@ class LeastTest(Case):
             self.same(letter_counts(algebra, most), counts)
             for degree in range(2, most):
                 self.same(letter_counts(algebra, degree), counts[:degree - 1])
+
+    def test_letters_of_both_sorts(self):
+        # [14.4]: units that are missing, and classes of the degree behind with the image 0
+        for algebra, most in SOME:
+            tower, images = least_tower(algebra, most)
+            for degree in range(2, most + 1):
+                many = len([letter for letter in tower.letters if letter < degree])
+                lower, ahead = cut_tower(tower, many), images[:many]
+                numbers = []
+                for n in (degree, degree + 1):
+                    rows = [slow_image(algebra, ahead, a_sum.terms) for a_sum in class_basis(lower, n)]
+                    numbers.append((len(rows), rank_by_prime(rows)))
+                missing = algebra.degrees.count(degree) - numbers[0][1]
+                self.same(tower.letters.count(degree), missing + numbers[1][0] - numbers[1][1])
+                # letters of the first sort have the step 0
+                added = tower.steps[many:many + tower.letters.count(degree)]
+                self.assertGreaterEqual(len([step for step in added if not step]), missing)
 
     def test_letters_that_are_cut_off(self):
         # [14.3]
@@ -210,6 +228,52 @@ class JudgedPairsTest(Case):
         near = Tower((2, 2, 3, 3), ({}, {}, {(2, 0, 0, 0): 3, (1, 1, 0, 0): -NEAR}, last))
         self.assertIs(is_least_tower(RATIOS, 3, (right, units)), True)
         self.assertIs(is_least_tower(RATIOS, 3, (near, units)), False)
+
+    def test_pairs_with_other_letters(self):
+        # each letter a multiple of that of a told pair; then one number of a step or of an image changed
+        some = random.Random(7)
+        outcomes = []
+        for algebra, most in SOME:
+            if algebra in (LONG, RATIOS):
+                continue
+            most = min(most, 6)
+            tower, images = least_tower(algebra, most)
+            for _ in range(4):
+                sizes = [Fraction(some.choice([1, -1, 2, 5, -3]), some.choice([1, 2, 7])) for _ in tower.letters]
+                steps = []
+                for size, step in zip(sizes, tower.steps):
+                    row = {}
+                    for word, number in step:
+                        part = fraction(number) * size
+                        for index in spelled(word):
+                            part /= sizes[index]
+                        row[word] = (part.numerator, part.denominator)
+                    steps.append(row)
+                others = tuple(tuple(ratio(fraction(number) * size) for number in image) for size, image in zip(sizes, images))
+                other = Tower(tower.letters, tuple(steps))
+                self.assertIs(is_least_tower(algebra, most, (other, others)), True)
+                for changed in self.changed(some, other, others):
+                    wanted = slow_is_least(algebra, most, *changed)
+                    self.assertIs(is_least_tower(algebra, most, changed), wanted)
+                    outcomes.append(wanted)
+        self.assertGreater(min(outcomes.count(True), outcomes.count(False)), 20)
+
+    def changed(self, some, tower, images):
+        """The pair with one number of an image, or one step, changed; those that are towers."""
+        if tower.size == 0:
+            return
+        at = some.randrange(tower.size)
+        for factor in (0, 3):
+            image = tuple((0, 1) if factor == 0 else (3 * top, bottom) if bottom % 3 else (top, bottom // 3) for top, bottom in images[at])
+            yield tower, images[:at] + (image,) + images[at + 1:]
+        for index, step in enumerate(tower.steps):
+            for word, number in step:
+                for more in ({}, {word: (number[0] * 2, number[1]) if number[1] % 2 else (number[0], number[1] // 2)}):
+                    rows = [row.terms for row in tower.steps]
+                    rows[index] = {**{key: part for key, part in rows[index].items() if key != word}, **more}
+                    if tower_fault(tower.letters, tuple(rows)) is None:
+                        yield Tower(tower.letters, tuple(rows)), images
+                break
 
     def test_integers_of_more_than_sixty_digits_in_steps(self):
         wide = Algebra((2, 2, 2, 4, 4), {(0, 0): {3: SIXTY, 4: 1}, (0, 1): {3: 2, 4: -SIXTY}, (1, 1): {3: SIXTY - 4, 4: 9}, (2, 2): {4: SIXTY - 1},

@@ -127,8 +127,9 @@ class MapsTest(Case):
             if not isinstance(value, Tower):
                 for call, more in ((map_fault, (None,)), (is_map, (None,)), (led, (None, None)), (linear_part, (None, 0)), (class_map, (None, -1))):
                     self.fails("InvalidTower", None, call, value, None, *more)
+                    self.fails("InvalidTower", None, call, value, BALL, *more)
                     self.fails("InvalidTower", None, call, BALL, value, *more)
-                for towers in ((value, None, None), (BALL, value, None), (BALL, BALL, value)):
+                for towers in ((value, None, None), (BALL, value, None), (BALL, BALL, value), (value, BALL, BALL), (BALL, value, BALL)):
                     self.fails("InvalidTower", None, composed, *towers, None, None)
 
     def test_too_many_words(self):
@@ -160,6 +161,10 @@ class MapsTest(Case):
                 self.fails("TooMany", 150, composed, BALL, one, other, (zero(one),) * 2, value)
         # without letters the degrees 0 and 1 are asked for alone
         self.assertIs(is_map(EMPTY, ROW, ()), True)
+        many = Tower((1,) * 24, ({},) * 24)
+        self.same([word_count(many.letters, degree) for degree in (0, 1, 2)], [1, 24, 276])
+        self.assertIs(is_map(EMPTY, many, ()), True)
+        self.fails("TooMany", 150, is_map, Tower((1,), ({},)), many, None)
         self.assertIs(is_map(Tower((2,), ({},)), ROW, (zero(ROW),)), True)
 
     def test_maps_go_along_with_steps_and_products(self):
@@ -314,6 +319,14 @@ class ClassMapTest(Case):
                     self.same(class_map(*call), 1 - degree % 2)
                 else:
                     self.fails("TooMany", 150, class_map, *call)
+        # more than 150 words of the degrees 4 to 6 of ten letters of the degree 1
+        one = Tower((1,), ({},))
+        for degree in range(12):
+            for call in ((one, ROW, (zero(ROW),), degree), (ROW, one, (zero(one),) * 10, degree)):
+                if 3 <= degree <= 7:
+                    self.fails("TooMany", 150, class_map, *call)
+                else:
+                    self.same(class_map(*call), int(degree == 0))
         for degree, number in ((2, 45), (3, None), (4, None), (7, None), (8, 45), (9, 10), (10, 1), (11, 0)):
             if number is None:
                 self.fails("TooMany", 150, class_map, ROW, ROW, identity(ROW), degree)

@@ -14,7 +14,7 @@ from stepletters.towers.brackets import tower_of_brackets
 from stepletters.towers.towers import Tower, beside
 from stepletters.words.sums import Sum
 from stepletters.words.words import word_count
-from support import (BALL, BENT, BOTH, EMPTY, HALF, KNOT, LONG, LONGER, SIXTY, TWIST, Case, any_values, fraction, slow_is_step, slow_rank,
+from support import (BALL, BENT, BOTH, EMPTY, HALF, KNOT, LONG, LONGER, ROW, SIXTY, TWIST, Case, any_values, fraction, slow_is_step, slow_rank,
                      slow_row, slow_step_rows, slow_words)
 
 NIL = Tower((1, 1, 1), ({}, {}, {(1, 1, 0): 1}))
@@ -183,6 +183,29 @@ class PapersTest(Case):
             self.fails("Refused", (word,), triple, tower, a, b, c)
             self.fails("Refused", (word,), triple_paper, tower, a, b, c)
 
+    def test_what_is_added_to_a_triple(self):
+        # [17.2] and [17.4]: the triple sum is a step once closed sums are added to the one, to the other or to both of a triple
+        for low, high in ((2, 3), (3, 5), (4, 7)):
+            letters = (low,) * 3 + (high,) * 4
+            word = lambda *places: tuple(int(at in places) for at in range(8))
+            steps = ({}, {}, {}, {word(0, 1)[:7]: 1}, {word(1, 2)[:7]: 2}, {}, {})
+            sign = -1 if low % 2 == 0 else 1
+            for first, second in ((0, 0), (5, 0), (0, 5), (5, (-2, 3)), ((1, 7), 4)):
+                last = {word(3, 2)[:7]: 1, word(0, 4)[:7]: (sign, 2), word(5, 2)[:7]: first, word(0, 6)[:7]: second}
+                # words are told in the order of the indices: x2 x3 instead of x3 x2
+                turn = -1 if low % 2 == 1 else 1
+                last = {key: (turn * number if isinstance(number, int) else (turn * number[0], number[1])) if key[2] else number for key, number in last.items()}
+                tower = Tower(letters + (low + high - 1,), tuple({key + (0,): number for key, number in step.items()} for step in steps + (last,)))
+                case = (tower, *[tower.letter_sum(index) for index in range(3)])
+                paper = triple_paper(*case)
+                self.same(paper[0], "zero")
+                self.assertIs(is_triple_paper(*case, paper), True)
+                self.assertEqual(tower.step(paper[3]), slow_triple_sum(case[1], case[3], paper[1:3]))
+                self.assertEqual(bool(paper[3]), True)
+                # without the last letter none is a step
+                short = Tower(letters, steps)
+                self.same(triple_paper(short, *[short.letter_sum(index) for index in range(3)])[0], "test")
+
     def test_just_one_sort_is_right(self):
         # [17.4]: a test for one triple is a test for each
         for case in CASES:
@@ -326,6 +349,24 @@ class ErrorsTest(Case):
                     self.fails("TooMany", 150, call, tower, a, b, c, *more)
             if fits:
                 self.same(triple_paper(tower, a, b, c)[0], "zero")
+
+    def test_each_degree_that_is_asked_for(self):
+        # ten letters of the degree 1: more than 150 words of the degrees 4 to 6 alone; just one degree that is asked for is among them
+        parts = {degree: Sum(ROW.letters, {(1,) * degree + (0,) * (10 - degree): 1}) for degree in range(11)}
+        self.same([degree for degree in range(11) if word_count(ROW.letters, degree) > 150], [4, 5, 6])
+        for degrees, told in (((3, 1, 7), (4,)), ((6, 1, 2), (6,)), ((7, 1, 3), (4,)), ((2, 1, 6), (6,)), ((2, 1, 2), (4,)), ((0, 2, 6), (6,)), ((2, 1, 1), ()),
+                              ((7, 1, 7), ()), ((1, 1, 1), ()), ((7, 1, 2), ())):
+            a, b, c = degrees
+            near = [a + b, b + c, a + b + c - 1]
+            self.assertEqual(sorted({n - k for n in near for k in (0, 1)} & {4, 5, 6}), sorted(set(told)))
+            given = [parts[degree] for degree in degrees]
+            for call, more in self.CALLS:
+                if told:
+                    self.fails("TooMany", 150, call, ROW, *given, *more)
+                elif call is triple_sum:
+                    self.fails("InvalidOperation", None, call, ROW, *given, *more)
+                else:
+                    call(ROW, *given, *more)
 
     def test_sums_with_very_many_words(self):
         # 400 words each, whose products have few words: no error of the bound of products is told
