@@ -134,11 +134,11 @@ class ExamplesTest(Case):
     def test_what_the_readme_shows(self):
         with open(os.path.join(HERE, "..", "README.md"), encoding="utf-8") as file:
             text = file.read().replace("```", "")
-        test = doctest.DocTestParser().get_doctest(text, {}, "README.md", None, 0)
-        self.assertGreater(len(test.examples), 30)
-        told = []
-        doctest.DocTestRunner().run(test, out=told.append)
-        self.assertEqual("".join(told), "")
+        examples, names = doctest.DocTestParser().get_examples(text), {}
+        self.assertGreater(len(examples), 30)
+        for example in examples:
+            found = outcome(example.source, names)
+            self.assertEqual("" if found is None else found + "\n", example.want)
 
     @unittest.skipUnless(os.path.exists(DOCUMENT), "the document is not here")
     def test_the_examples_are_those_of_the_document(self):
