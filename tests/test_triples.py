@@ -10,12 +10,13 @@ from stepletters.classes import triples
 from stepletters.classes.classes import class_basis, class_paper
 from stepletters.classes.triples import is_triple, is_triple_paper, triple, triple_paper, triple_sum
 from stepletters.plain.grades import grade_row, top_grade
-from stepletters.towers.brackets import tower_of_brackets
+from stepletters.towers.brackets import brackets_fault, tower_of_brackets
 from stepletters.towers.towers import Tower, beside
 from stepletters.words.sums import Sum
 from stepletters.words.words import word_count
 from support import (BALL, BENT, BOTH, EMPTY, HALF, KNOT, LONG, LONGER, ROW, SIXTY, TWIST, Case, any_values, fraction, slow_is_step, slow_rank,
                      slow_row, slow_step_rows, slow_words)
+from test_brackets import some_tables
 
 NIL = Tower((1, 1, 1), ({}, {}, {(1, 1, 0): 1}))
 X, Y, Z = [NIL.letter_sum(index) for index in range(3)]
@@ -182,6 +183,33 @@ class PapersTest(Case):
         for tower, a, b, c, word in WITHOUT:
             self.fails("Refused", (word,), triple, tower, a, b, c)
             self.fails("Refused", (word,), triple_paper, tower, a, b, c)
+
+    def test_papers_by_chance(self):
+        # [17.4], and what `triple` refuses
+        some = random.Random(11)
+        sorts = []
+        for table in some_tables(60, 77):
+            if brackets_fault(table) is not None:
+                continue
+            tower = tower_of_brackets(table)
+            for _ in range(8):
+                a, b, c = [self.some_sum(some, tower, some.choice((1, 1, 2))) for _ in range(3)]
+                fits = [not product or slow_is_step(tower, product) for product in (a * b, b * c)]
+                if all(fits):
+                    paper = triple_paper(tower, a, b, c)
+                    self.assertIs(is_triple_paper(tower, a, b, c, paper), True)
+                    self.assertEqual(paper[0], slow_sort(tower, a, b, c, paper[1:3]))
+                    sorts.append(paper[0])
+                else:
+                    word = "second" if fits[0] else "first"
+                    self.fails("Refused", (word,), triple, tower, a, b, c)
+                    sorts.append(word)
+        self.assertGreater(min(sorts.count(word) for word in ("zero", "test", "first", "second")), 15)
+
+    def some_sum(self, some, tower, degree):
+        """A closed sum of a degree other than 0."""
+        made = closed(tower, degree)
+        return sum([a_sum * some.choice([1, -1, 2, (1, 3)]) for a_sum in some.sample(made[1:], min(len(made) - 1, 1))], made[0])
 
     def test_what_is_added_to_a_triple(self):
         # [17.2] and [17.4]: the triple sum is a step once closed sums are added to the one, to the other or to both of a triple
