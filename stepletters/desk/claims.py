@@ -8,7 +8,6 @@ from stepletters.words.sums import MAX_TERMS, Sum, is_terms
 from stepletters.words.words import is_letters
 
 _MOST_SIGNS = 8
-_MAX_DEGREE = 20
 _MOST_CLASSES = 150
 
 
@@ -19,15 +18,15 @@ def is_name(value):
     return all(["a" <= sign <= "z" for sign in value])
 
 
-def is_claim(value):
-    """Whether the value is a claim, true or not."""
+def is_claim(value, most):
+    """Whether the value is a claim, true or not, of classes of degrees up to `most`."""
     if not isinstance(value, tuple) or len(value) < 2 or not is_name(value[1]):
         return False
     word, rest = value[0], value[2:]
     if word in ("plain", "ends"):
         return len(rest) == 0
     if word == "classes":
-        return len(rest) == 2 and is_between(rest[0], 0, _MAX_DEGREE) and is_between(rest[1], 0, _MOST_CLASSES)
+        return len(rest) == 2 and is_between(rest[0], 0, most) and is_between(rest[1], 0, _MOST_CLASSES)
     if len(rest) != 1:
         return False
     if word == "equal":

@@ -82,7 +82,7 @@ class Desk:
         """Claim something further of towers."""
         if not is_name(label):
             raise InvalidOperation("not one to eight characters from a to z")
-        if not is_claim(claim):
+        if not is_claim(claim, MAX_CLAIMED):
             raise InvalidOperation("not a claim")
         towers, claims = self._moments[self._at]
         if label in claims:
